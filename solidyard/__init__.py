@@ -1,0 +1,1 @@
+"""Solidyard: bodies with flat walls, told exactly."""

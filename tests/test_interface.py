@@ -1,0 +1,29 @@
+"""The interface of DOC.md: the listed names, with as many arguments as listed."""
+
+import importlib
+import inspect
+import unittest
+
+LISTED = {
+    "lowest": (
+        "divisor(one, other)", "fraction(top, bottom)", "plus(one, other)", "minus(one, other)",
+        "times(one, other)", "divided(one, other)", "ranked(one, other)",
+    ),
+    "points": ("point(x, y, z, w)", "amid(p, q)", "turn(p, q, r, s)"),
+    "planes": ("plane(a, b, c, d)", "height(plane, point)", "over(plane)", "plane_through(p, q, r)"),
+}
+
+
+class Names(unittest.TestCase):
+    def test_listed_functions_are_there(self):
+        for file, rows in LISTED.items():
+            module = importlib.import_module("solidyard." + file)
+            for row in rows:
+                name = row.partition("(")[0]
+                function = getattr(module, name)
+                self.assertEqual(name + str(inspect.signature(function)), row)
+                self.assertEqual(function.__module__, "solidyard." + file)
+
+
+if __name__ == "__main__":
+    unittest.main()

@@ -32,12 +32,17 @@ def opposite(numbers):
     return tuple([-number for number in numbers])
 
 
+def lowest_over(numbers):
+    """A tuple of whole numbers in lowest terms, all signs turned where the last one, not 0, is below 0."""
+    terms = lowest_terms(numbers)
+    return terms if terms[-1] > 0 else opposite(terms)
+
+
 def fraction(top, bottom):
     """The fraction worth top divided by bottom."""
     if bottom == 0:
         raise BottomNought("nothing is divided by 0")
-    terms = lowest_terms((top, bottom))
-    return terms if bottom > 0 else opposite(terms)
+    return lowest_over((top, bottom))
 
 
 def plus(one, other):

@@ -1,15 +1,14 @@
 """Points, ways between them, and the turn of four points."""
 
 from solidyard.errors import LastNought
-from solidyard.lowest import lowest_terms, opposite, sign
+from solidyard.lowest import lowest_over, sign
 
 
 def point(x, y, z, w):
     """The point of the measures x / w, y / w and z / w."""
     if w == 0:
         raise LastNought("the last number of a point is not 0")
-    terms = lowest_terms((x, y, z, w))
-    return terms if w > 0 else opposite(terms)
+    return lowest_over((x, y, z, w))
 
 
 def amid(p, q):

@@ -2,13 +2,16 @@
 
 import unittest
 
+from solidyard.errors import YardError
+from solidyard.lines import line_common, line_through, on_line, spot
 from solidyard.lowest import divided, divisor, fraction, minus, plus, ranked, times
 from solidyard.planes import height, over, plane, plane_through
 from solidyard.points import amid, point, turn
+from solidyard.rows import row_common, row_either, row_joined, row_less, row_of, row_place
 from tests.helper import GREAT, HUGE, is_plain
 
 P, Q, R, S = (1, 2, 3, 4), (0, 5, 1, 2), (-7, 0, 2, 3), (HUGE, 1, 0, GREAT)
-QUESTIONS = (
+OF_POINTS = (
     (divisor, (12, -18)), (divisor, (0, 0)), (divisor, (1, 0)),
     (fraction, (6, -4)), (fraction, (0, -1)), (fraction, (5, 5)),
     (plus, ((1, 2), (1, 2))), (minus, ((1, 2), (1, 2))), (times, ((1, 2), (2, 1))), (divided, ((1, 2), (1, 2))),
@@ -18,6 +21,23 @@ QUESTIONS = (
     (plane, (0, 0, -2, 0)), (plane, (1, 0, 0, 1)), (over, ((0, 0, -1, 1),)),
     (height, ((1, 0, 0, 0), P)), (height, ((0, 0, 1, 0), (1, 1, 0, 1))),
     (plane_through, (P, Q, R)), (plane_through, (Q, P, S)),
+)
+LINE = (1, 0, 0, 0, 0, 0)
+A, B, C, D = (0, 0, 0, 1), (3, 0, 0, 4), (1, 0, 0, 1), (HUGE, 0, 0, GREAT)
+ONE, OTHER = ((A, C),), ((B, D),)
+ON_LINES = (
+    (line_through, (P, Q)), (line_through, (A, (1, 0, 0, 1))), (line_through, (Q, S)),
+    (line_common, ((0, 0, 1, 0), (0, 1, 0, 0))), (line_common, ((1, 2, 3, 4), (4, 3, 2, 1))),
+    (spot, (LINE, (1, 0, 0, -1))), (spot, (LINE, (-3, 1, 1, 2))),
+    (row_of, (LINE, ((B, A), (C, B), (D, D)))), (row_of, (LINE, ())), (row_of, (LINE, [(D, B), (A, C)])),
+    (row_place, (LINE, ONE, B)), (row_place, (LINE, ONE, C)), (row_place, (LINE, ONE, D)),
+    (row_joined, (LINE, ONE, OTHER)), (row_common, (LINE, ONE, OTHER)),
+    (row_less, (LINE, ONE, OTHER)), (row_either, (LINE, ONE, OTHER)), (row_less, (LINE, ONE, ONE)),
+)
+QUESTIONS = OF_POINTS + ON_LINES
+REFUSED = (
+    (fraction, (1, 0)), (divided, ((1, 2), (0, 1))), (point, (1, 2, 3, 0)), (plane, (0, 0, 0, 1)),
+    (plane_through, (P, P, Q)), (line_through, (P, P)), (row_of, (LINE, [(A, P)])), (row_place, (LINE, ONE, P)),
 )
 NUMBERS = (int, tuple)
 
@@ -38,6 +58,12 @@ class Built(unittest.TestCase):
             self.assertTrue(is_plain(answer), (asked, arguments))
             self.assertTrue(all(type(part) in NUMBERS for part in parts(answer)), (asked, arguments))
 
+    def test_true_false_and_none(self):
+        self.assertIs(on_line(LINE, A), True)
+        self.assertIs(on_line(LINE, P), False)
+        self.assertIs(line_common((0, 0, 1, 0), (0, 0, 1, 5)), None)
+        self.assertIs(spot(LINE, (0, 0, 1, 5)), None)
+
     def test_the_same_when_asked_again(self):
         first = [asked(*arguments) for asked, arguments in QUESTIONS]
         backwards = [asked(*arguments) for asked, arguments in QUESTIONS[::-1]]
@@ -45,9 +71,32 @@ class Built(unittest.TestCase):
         self.assertEqual(first, backwards[::-1])
         self.assertEqual(first, again)
 
+    def test_the_same_behind_refusals(self):
+        first = [asked(*arguments) for asked, arguments in QUESTIONS]
+        for asked, arguments in REFUSED:
+            with self.assertRaises(YardError):
+                asked(*arguments)
+        self.assertEqual([asked(*arguments) for asked, arguments in QUESTIONS], first)
+
     def test_each_question_twice_over(self):
         for asked, arguments in QUESTIONS:
             self.assertEqual(asked(*arguments), asked(*arguments), (asked, arguments))
+
+
+class Lists(unittest.TestCase):
+    def test_altering_a_list_alters_no_answer(self):
+        handed = [(A, B), (C, D)]
+        first = row_of(LINE, handed)
+        self.assertEqual(handed, [(A, B), (C, D)])
+        handed[0] = (A, D)
+        self.assertEqual(first, ((A, B), (C, D)))
+        self.assertEqual(row_of(LINE, handed), ((A, C),))
+        self.assertEqual(row_of(LINE, [(A, B), (C, D)]), first)
+
+    def test_rows_asked_about_stay_as_they_are(self):
+        for told in (row_joined, row_common, row_less, row_either):
+            told(LINE, ONE, OTHER)
+            self.assertEqual((ONE, OTHER), (((A, C),), ((B, D),)))
 
 
 if __name__ == "__main__":

@@ -11,6 +11,11 @@ LISTED = {
     ),
     "points": ("point(x, y, z, w)", "amid(p, q)", "turn(p, q, r, s)"),
     "planes": ("plane(a, b, c, d)", "height(plane, point)", "over(plane)", "plane_through(p, q, r)"),
+    "lines": ("line_through(p, q)", "on_line(line, point)", "line_common(one, other)", "spot(line, plane)"),
+    "rows": (
+        "row_of(line, stretches)", "row_place(line, row, point)", "row_joined(line, one, other)",
+        "row_common(line, one, other)", "row_less(line, one, other)", "row_either(line, one, other)",
+    ),
 }
 
 

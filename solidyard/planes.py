@@ -8,7 +8,7 @@ from solidyard.points import cross, dot, way_from
 def plane(a, b, c, d):
     """The plane of four whole numbers, the first three not all 0."""
     if a == 0 and b == 0 and c == 0:
-        raise NoPlane("the first three numbers of a plane are not all 0")
+        raise NoPlane("the first three numbers are 0")
     return lowest_terms((a, b, c, d))
 
 
@@ -24,8 +24,7 @@ def over(plane):
 
 def plane_through(p, q, r):
     """The plane that holds three points, which go round to the left as seen from its front."""
+    # Where some line holds the points this comes to three noughts, of which plane makes none.
     upright = cross(way_from(p, q), way_from(p, r))
-    if upright == (0, 0, 0):
-        raise NoPlane("some line holds the three points")
     a, b, c = [number * p[3] for number in upright]
     return plane(a, b, c, -dot(upright, p))

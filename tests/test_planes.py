@@ -120,6 +120,13 @@ class Through(unittest.TestCase):
         self.assertEqual(plane_through((1, 0, 0, 2), (0, 1, 0, 3), (0, 0, 1, 5)), (2, 3, 5, -1))
         self.assertEqual(plane_through((0, 0, 1, 2), (7, 0, 1, 2), (0, 3, 2, 4)), (0, 0, 2, -1))
 
+    def test_along_two_axes(self):
+        ends = ((1, 0, 0, 1), (0, 1, 0, 1), (0, 0, 1, 1))
+        for at in range(3):
+            upright = tuple(int(k == at) for k in range(3)) + (0,)
+            self.assertEqual(plane_through(ORIGIN, ends[at - 2], ends[at - 1]), upright)
+            self.assertEqual(plane_through(ORIGIN, ends[at - 1], ends[at - 2]), over(upright))
+
     def test_all_is_kept_in_lowest_terms(self):
         points = some_points(90, 12)
         for k in range(0, 90, 3):

@@ -4,14 +4,32 @@ Such a set is told by a list of its ends: an even number of unlike points, each 
 the next one. The set begins at the first, stops at the second, and so by turns.
 """
 
+from solidyard.points import axis_of
+
 
 def is_ahead(line, p, q):
     """True where p comes earlier than q on the line's way."""
-    axis = 0
-    while line[axis] == 0:
-        axis += 1
-    # This number of the line is above 0, so the measure grows along the way.
+    # The first number of a line that is not 0 is above 0, so this measure grows along the way.
+    axis = axis_of(line)
     return p[axis] * q[3] < q[axis] * p[3]
+
+
+def in_order(line, points):
+    """Unlike points of a line in a list, each ahead of the next one."""
+    axis = axis_of(line)
+    most = max([p[3] for p in points], default=1)
+    # Two unlike measures over bottoms up to most lie 1 / scale apart at least,
+    # so scale times of them are not rounded down to one whole number.
+    scale = most * most
+    return sorted(points, key=lambda p: p[axis] * scale // p[3])
+
+
+def odd_ends(line, points):
+    """The ends of a set whose ends are the points that come an odd number of times."""
+    odd = {}
+    for p in points:
+        odd[p] = not odd.get(p, False)
+    return in_order(line, [p for p in odd if odd[p]])
 
 
 def next_end(line, one, at, other, to):
@@ -37,26 +55,3 @@ def ends_kept(line, one, other, keeps):
         if keeps(at % 2 == 1, to % 2 == 1) != (len(kept) % 2 == 1):
             kept.append(here)
     return kept
-
-
-def ends_either(line, one, other):
-    """The ends of what only one of two sets has: those that stand in just one of both lists."""
-    return ends_kept(line, one, other, lambda in_one, in_other: in_one != in_other)
-
-
-def ends_of_pair(line, p, q):
-    """The ends of what lies between two points, handed in in either order."""
-    if p == q:
-        return []
-    return [p, q] if is_ahead(line, p, q) else [q, p]
-
-
-def ends_of_pairs(line, pairs):
-    """The ends of what lies between the two points of an odd number of pairs."""
-    known = [ends_of_pair(line, p, q) for p, q in pairs]
-    # Two by two, so that long lists are gone through a few times only.
-    while len(known) > 1:
-        left = known[len(known) // 2 * 2:]
-        known = [ends_either(line, one, other) for one, other in zip(known[0::2], known[1::2])]
-        known.extend(left)
-    return known[0] if known else []

@@ -14,7 +14,9 @@ def plane(a, b, c, d):
 
 def height(plane, point):
     """0 for a point that the plane holds, above 0 in front of it, below 0 behind it."""
-    return dot(plane, point) + plane[3] * point[3]
+    a, b, c, d = plane
+    x, y, z, w = point
+    return a * x + b * y + c * z + d * w
 
 
 def over(plane):

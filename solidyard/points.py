@@ -37,6 +37,14 @@ def cross(u, v):
     )
 
 
+def axis_of(way):
+    """The place of the first number that is not 0, of the first three of a tuple, which are not all 0."""
+    axis = 0
+    while way[axis] == 0:
+        axis += 1
+    return axis
+
+
 def turn(p, q, r, s):
     """1, 0 or -1: the sign of the determinant of the ways from p to q, to r and to s."""
     return sign(dot(way_from(p, q), cross(way_from(p, r), way_from(p, s))))

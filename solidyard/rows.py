@@ -1,6 +1,6 @@
 """Rows: sets of points on a line, told by stretches."""
 
-from solidyard.ends import ends_either, ends_kept, ends_of_pairs, is_ahead
+from solidyard.ends import ends_kept, is_ahead, odd_ends
 from solidyard.errors import OffLine
 from solidyard.lines import on_line
 
@@ -22,10 +22,16 @@ def row_between(ends):
     return tuple(zip(ends[0::2], ends[1::2]))
 
 
+def row_of_ends(line, points):
+    """The row whose ends are the points of the line that come an odd number of times."""
+    return row_between(odd_ends(line, points))
+
+
 def row_of(line, stretches):
     """The row of the points between the two points of an odd number of the stretches."""
-    refuse_off_line(line, row_ends(stretches))
-    return row_between(ends_of_pairs(line, stretches))
+    ends = row_ends(stretches)
+    refuse_off_line(line, ends)
+    return row_of_ends(line, ends)
 
 
 def row_place(line, row, point):
@@ -61,4 +67,4 @@ def row_less(line, one, other):
 
 def row_either(line, one, other):
     """The points that only one of two rows has."""
-    return row_between(ends_either(line, row_ends(one), row_ends(other)))
+    return row_of_ends(line, row_ends(one) + row_ends(other))

@@ -2,13 +2,19 @@
 
 import unittest
 
+from solidyard.bodies import body_of, heap_of, is_body
 from solidyard.errors import YardError
+from solidyard.fronts import land_before
+from solidyard.lands import is_land, land_of, land_over, land_place, spread
+from solidyard.landwords import land_common, land_either, land_joined, land_less
 from solidyard.lines import line_common, line_through, on_line, spot
 from solidyard.lowest import divided, divisor, fraction, minus, plus, ranked, times
 from solidyard.planes import height, over, plane, plane_through
 from solidyard.points import amid, point, turn
+from solidyard.rims import land_part, rim, trace
 from solidyard.rows import row_common, row_either, row_joined, row_less, row_of, row_place
-from tests.helper import GREAT, HUGE, is_plain
+from solidyard.words import common, either, joined, less
+from tests.helper import CUBE, FRAMES, GREAT, HEAPS, HUGE, OVERLAP, SHEETS, TETRA, is_plain
 
 P, Q, R, S = (1, 2, 3, 4), (0, 5, 1, 2), (-7, 0, 2, 3), (HUGE, 1, 0, GREAT)
 OF_POINTS = (
@@ -34,10 +40,32 @@ ON_LINES = (
     (row_joined, (LINE, ONE, OTHER)), (row_common, (LINE, ONE, OTHER)),
     (row_less, (LINE, ONE, OTHER)), (row_either, (LINE, ONE, OTHER)), (row_less, (LINE, ONE, ONE)),
 )
-QUESTIONS = OF_POINTS + ON_LINES
+SHEET = SHEETS[4]
+LAND, HOLE = SHEET.land(SHEET.square(0, 0, 6)), SHEET.land(SHEET.square(2, 2))
+HOLED = SHEET.land(SHEET.square(0, 0, 6), SHEET.square(2, 2)[::-1])
+RINGS = [SHEET.square(0, 0, 6), list(SHEET.square(2, 2)), [], [SHEET.at(0, 0)]]
+ACROSS = (1, 0, 0, -1)
+IN_PLANES = (
+    (land_of, (SHEET.plane, RINGS)), (land_of, (SHEET.plane, ())), (land_over, (HOLED,)),
+    (land_place, (HOLED, SHEET.at(0, 0))), (land_place, (HOLED, SHEET.at(1, 1))), (land_place, (HOLED, SHEET.at(3, 3))),
+    (spread, (HOLED,)), (spread, ((SHEET.plane, ()),)),
+    (land_joined, (HOLED, HOLE)), (land_common, (LAND, HOLE)), (land_less, (LAND, HOLE)), (land_either, (LAND, HOLE)),
+    (rim, (HOLED, ACROSS)), (trace, (HOLED, ACROSS)), (land_part, (HOLED, ACROSS)), (rim, (HOLED, SHEET.plane)),
+)
+FRAME = FRAMES[2]
+BODY, OTHER_BODY = FRAME.body([[ring] for ring in CUBE]), FRAME.body([[ring] for ring in TETRA])
+OF_BODIES = (
+    (body_of, (FRAME.heap(CUBE + TETRA),)), (body_of, ([],)), (body_of, ([list(ring) for ring in FRAME.heap(TETRA)],)),
+    (heap_of, (BODY,)), (heap_of, ((),)), (land_before, (BODY, (1, 1, 1, -1))), (land_before, (BODY, BODY[0][0])),
+    (joined, (BODY, OTHER_BODY)), (common, (BODY, OTHER_BODY)), (less, (BODY, OTHER_BODY)),
+    (either, (BODY, OTHER_BODY)), (either, (BODY, BODY)), (joined, (FRAME.body(OVERLAP), BODY)),
+)
+QUESTIONS = OF_POINTS + ON_LINES + IN_PLANES + OF_BODIES
 REFUSED = (
     (fraction, (1, 0)), (divided, ((1, 2), (0, 1))), (point, (1, 2, 3, 0)), (plane, (0, 0, 0, 1)),
     (plane_through, (P, P, Q)), (line_through, (P, P)), (row_of, (LINE, [(A, P)])), (row_place, (LINE, ONE, P)),
+    (land_of, (SHEET.plane, [[SHEET.off(0, 0)]])), (land_place, (LAND, SHEET.off(0, 0))),
+    (land_joined, (LAND, land_over(LAND))), (body_of, (FRAME.heap(CUBE[:-1]),)), (body_of, ([(P, Q, R, (9, 9, 9, 1))],)),
 )
 NUMBERS = (int, tuple)
 
@@ -63,6 +91,10 @@ class Built(unittest.TestCase):
         self.assertIs(on_line(LINE, P), False)
         self.assertIs(line_common((0, 0, 1, 0), (0, 0, 1, 5)), None)
         self.assertIs(spot(LINE, (0, 0, 1, 5)), None)
+        self.assertIs(is_land(HOLED), True)
+        self.assertIs(is_land(land_over(HOLED)[:1] + HOLED[1:]), False)
+        self.assertIs(is_body(BODY), True)
+        self.assertIs(is_body(BODY[::-1]), False)
 
     def test_the_same_when_asked_again(self):
         first = [asked(*arguments) for asked, arguments in QUESTIONS]
@@ -92,6 +124,46 @@ class Lists(unittest.TestCase):
         self.assertEqual(first, ((A, B), (C, D)))
         self.assertEqual(row_of(LINE, handed), ((A, C),))
         self.assertEqual(row_of(LINE, [(A, B), (C, D)]), first)
+
+    def test_altering_rings_alters_no_answer(self):
+        for asked in (lambda rings: land_of(SHEET.plane, rings), lambda rings: body_of(rings + rings)):
+            handed = [list(SHEET.square(0, 0, 6)), list(SHEET.square(2, 2))]
+            first = asked(handed)
+            self.assertEqual(handed, [list(SHEET.square(0, 0, 6)), list(SHEET.square(2, 2))])
+            handed[1][0] = SHEET.at(1, 1)
+            second = asked(handed)
+            handed.pop()
+            third = asked(handed)
+            self.assertEqual(asked([SHEET.square(0, 0, 6), SHEET.square(2, 2)]), first)
+            bent = SHEET.ring((1, 1), (4, 2), (4, 4), (2, 4))
+            self.assertEqual(asked([SHEET.square(0, 0, 6), bent]), second)
+            self.assertEqual(asked([SHEET.square(0, 0, 6)]), third)
+
+    def test_altering_a_heap_alters_no_answer(self):
+        handed = [list(ring) for ring in FRAME.heap(CUBE)]
+        first = body_of(handed)
+        for ring in handed:
+            ring.reverse()
+            ring.pop()
+        handed.clear()
+        self.assertEqual(first, BODY)
+        self.assertEqual(body_of([list(ring) for ring in FRAME.heap(CUBE)]), BODY)
+
+    def test_the_field_of_a_refusal_is_not_altered_later(self):
+        handed = [list(ring) for ring in FRAME.heap(CUBE[:-1])]
+        with self.assertRaises(YardError) as caught:
+            body_of(handed)
+        gap = caught.exception.gap
+        self.assertTrue(is_plain(gap))
+        kept = tuple(gap)
+        handed.clear()
+        self.assertEqual(caught.exception.gap, kept)
+
+    def test_bodies_asked_about_stay_as_they_are(self):
+        for name, (rings, walls) in HEAPS.items():
+            body = FRAME.body(walls)
+            heap_of(body), is_body(body), land_before(body, ACROSS), joined(body, BODY)
+            self.assertEqual(body, FRAME.body(walls))
 
     def test_rows_asked_about_stay_as_they_are(self):
         for told in (row_joined, row_common, row_less, row_either):

@@ -21,6 +21,16 @@ BARRED_NAMES = set(
     " copyright credits delattr dir eval exec exit gc getattr globals hasattr help id importlib license locals"
     " methodcaller os quit setattr vars sys global print chr format".split()
 )
+METHODS = set(
+    "append clear copy count endswith extend find get index insert isalnum isalpha isdigit islower isspace isupper"
+    " items join keys ljust lower lstrip partition pop remove replace reverse rfind rjust rpartition rsplit rstrip"
+    " setdefault split splitlines startswith strip update upper values zfill bit_length add discard __init__".split()
+)
+KEYWORDS = {
+    "sorted": {"key", "reverse"}, "min": {"key", "default"}, "max": {"key", "default"}, "sum": {"start"},
+    "enumerate": {"start"}, "zip": {"strict"},
+}
+GONE_THROUGH_AT_ONCE = {"zip", "enumerate", "reversed", "range"}
 STATEMENTS_BARRED = (ast.Global, ast.AsyncFunctionDef, ast.AsyncFor, ast.AsyncWith, ast.Await, ast.Import)
 MODULE_LEVEL = (ast.ImportFrom, ast.FunctionDef, ast.ClassDef, ast.Assign, ast.Expr)
 
@@ -108,6 +118,46 @@ class Code(unittest.TestCase):
                     self.assertFalse(node.args.posonlyargs, path)
                 if isinstance(node, ast.ClassDef):
                     self.assertFalse(node.decorator_list, path)
+
+    def test_calls_of_builtins(self):
+        for path, tree in self.trees():
+            for node in ast.walk(tree):
+                if isinstance(node, ast.Call) and isinstance(node.func, ast.Attribute):
+                    self.assertIn(node.func.attr, METHODS, path)
+                    self.assertFalse(node.keywords, path)
+                if isinstance(node, ast.Call) and isinstance(node.func, ast.Name) and node.func.id in BUILTINS:
+                    handed = {keyword.arg for keyword in node.keywords}
+                    self.assertLessEqual(handed, KEYWORDS.get(node.func.id, set()), (path, node.lineno))
+                if isinstance(node, (ast.Assign, ast.Return)) and isinstance(node.value, ast.Call):
+                    name = getattr(node.value.func, "id", None)
+                    self.assertNotIn(name, GONE_THROUGH_AT_ONCE, (path, node.lineno))
+
+    def test_is_with_none_true_and_false_alone(self):
+        for path, tree in self.trees():
+            for node in ast.walk(tree):
+                if isinstance(node, ast.Compare):
+                    for sign, side in zip(node.ops, node.comparators):
+                        if isinstance(sign, (ast.Is, ast.IsNot)):
+                            self.assertIn(getattr(side, "value", 0), (None, True, False), (path, node.lineno))
+
+    def test_sets_are_not_gone_through(self):
+        for path, tree in self.trees():
+            stored = set()
+            for node in ast.walk(tree):
+                if isinstance(node, ast.Assign) and isinstance(node.value, (ast.Set, ast.SetComp, ast.Call)):
+                    if isinstance(node.value, ast.Call) and getattr(node.value.func, "id", None) != "set":
+                        continue
+                    stored |= {target.id for target in node.targets}
+            for node in ast.walk(tree):
+                if isinstance(node, (ast.For, ast.comprehension)):
+                    self.assertNotIsInstance(node.iter, (ast.Set, ast.SetComp), path)
+                    self.assertNotIn(getattr(node.iter, "id", None), stored, path)
+
+    def test_no_import_is_left_unused(self):
+        for path, tree in self.trees():
+            imported = {a.asname or a.name for n in tree.body if isinstance(n, ast.ImportFrom) for a in n.names}
+            read = {node.id for node in ast.walk(tree) if isinstance(node, ast.Name)}
+            self.assertFalse(imported - read, path)
 
     def test_names(self):
         for path, tree in self.trees():

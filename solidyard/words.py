@@ -1,0 +1,25 @@
+"""The four words of two bodies."""
+
+from solidyard.walls import body_hull, body_told, hull_common, hull_either
+
+
+def joined(one, other):
+    """What lies within one of two bodies or both."""
+    hull, other_hull = body_hull(one), body_hull(other)
+    return body_told(hull_either(hull_either(hull, other_hull), hull_common(hull, other_hull)))
+
+
+def common(one, other):
+    """What two bodies share."""
+    return body_told(hull_common(body_hull(one), body_hull(other)))
+
+
+def less(one, other):
+    """The first body without the second."""
+    hull = body_hull(one)
+    return body_told(hull_either(hull, hull_common(hull, body_hull(other))))
+
+
+def either(one, other):
+    """What lies within one of two bodies but not within the other."""
+    return body_told(hull_either(body_hull(one), body_hull(other)))

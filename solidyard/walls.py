@@ -30,6 +30,11 @@ def body_hull(body):
     return hull_of([(plane, sides_of(rings)) for plane, rings in body])
 
 
+def body_sides(body):
+    """The sides of a body's walls, in a dict of lists by their planes."""
+    return {plane: sides_of(rings) for plane, rings in body}
+
+
 def hull_sides(hull):
     """The stretches of a hull, in a dict of lists by its planes."""
     return {plane: border_stretches(hull[plane]) for plane in hull}
@@ -74,14 +79,23 @@ def hull_common(one, other):
     return hull_kept(borders)
 
 
+def hull_joined(one, other):
+    """The hull of what lies within one of two bodies or both."""
+    return hull_either(hull_either(one, other), hull_common(one, other))
+
+
 def walls_in(plane, border, sides):
     """The walls of a body in a plane and in the same turned over, of which one or both may have no points."""
     looking_back = border_common(plane, border, border_before(sides, plane))
     return [land_told(plane, border_either(border, looking_back)), land_told(over(plane), looking_back)]
 
 
+def walls_kept(walls):
+    """The list of a body's walls, of which some may have no points."""
+    return tuple(sorted([wall for wall in walls if wall[1] != ()]))
+
+
 def body_told(hull):
     """The body of a hull."""
     sides = hull_sides(hull)
-    walls = [wall for plane in hull for wall in walls_in(plane, hull[plane], sides)]
-    return tuple(sorted([wall for wall in walls if wall[1] != ()]))
+    return walls_kept([wall for plane in hull for wall in walls_in(plane, hull[plane], sides)])

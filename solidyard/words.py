@@ -1,12 +1,11 @@
 """The four words of two bodies."""
 
-from solidyard.walls import body_hull, body_told, hull_common, hull_either
+from solidyard.walls import body_hull, body_told, hull_common, hull_either, hull_joined
 
 
 def joined(one, other):
     """What lies within one of two bodies or both."""
-    hull, other_hull = body_hull(one), body_hull(other)
-    return body_told(hull_either(hull_either(hull, other_hull), hull_common(hull, other_hull)))
+    return body_told(hull_joined(body_hull(one), body_hull(other)))
 
 
 def common(one, other):

@@ -315,6 +315,69 @@ def is_wall(heap, plane, p):
     return is_within(heap, behind) and not is_within(heap, before)
 
 
+def on_wall_by_hand(body, p):
+    """True where a point lies on a side or within the land of a wall."""
+    return any(dotted(plane, p) == 0 and place_by_hand(plane, rings, p) >= 0 for plane, rings in body)
+
+
+def body_place_by_hand(body, p):
+    """0 for a point on a wall, else 1 or -1 by counting what a half line meets."""
+    if on_wall_by_hand(body, p):
+        return 0
+    return 1 if is_within([ring for plane, rings in body for ring in rings], measures(p)) else -1
+
+
+def volume_by_hand(body):
+    """The volume of a body, by tetrahedra over its rings."""
+    total = Fraction(0)
+    for plane, rings in body:
+        for ring in rings:
+            spots = [measures(p) for p in ring]
+            for q, r in zip(spots[1:], spots[2:]):
+                total += dotted(spots[0], crossed(q, r))
+    return total / 6
+
+
+def volume_of(*bodies):
+    """What the volumes of bodies come to, as a pair of whole numbers."""
+    total = sum(volume_by_hand(body) for body in bodies)
+    return total.numerator, total.denominator
+
+
+def lies_between(p, q, spot):
+    """True where three measures lie between two others, and are none of them."""
+    to, fro = minus(p, spot), minus(q, spot)
+    return crossed(to, fro) == (0, 0, 0) and dotted(to, fro) < 0
+
+
+def bits_by_hand(body):
+    """The sides of a body cut at its corners, by asking of each corner whether it lies amid each side."""
+    rings = [ring for plane, rings in body for ring in rings]
+    corners = {p: measures(p) for ring in rings for p in ring}
+    found = set()
+    for p, q in {tuple(sorted(side)) for ring in rings for side in ring_sides(ring)}:
+        start, goal = corners[p], corners[q]
+        amid = [c for c in corners if lies_between(start, goal, corners[c])]
+        way = minus(goal, start)
+        spots = [p] + sorted(amid, key=lambda c: dotted(minus(corners[c], start), way)) + [q]
+        found |= {tuple(sorted(pair)) for pair in zip(spots, spots[1:])}
+    return tuple(sorted(found))
+
+
+def ring_turn(plane, ring):
+    """1 for a ring that goes round to the left as seen from the plane's front, -1 for the other way, by its area."""
+    upright = [0, 0, 0]
+    for p, q in ring_sides([measures(p) for p in ring]):
+        upright = [a + b for a, b in zip(upright, crossed(p, q))]
+    return signum(dotted(upright, plane))
+
+
+def counts_by_hand(body):
+    rings = [(plane, ring) for plane, rings in body for ring in rings]
+    turns = [ring_turn(plane, ring) for plane, ring in rings]
+    return len({p for plane, ring in rings for p in ring}), len(bits_by_hand(body)), turns.count(1), turns.count(-1)
+
+
 # Solids, told by three numbers for each corner in a frame of three ways.
 
 class Frame:
@@ -322,6 +385,7 @@ class Frame:
 
     def __init__(self, start, *ways):
         self.start, self.ways = start, ways
+        self.size = abs(dotted(ways[0], crossed(ways[1], ways[2])))
         self.is_mirrored = dotted(ways[0], crossed(ways[1], ways[2])) < 0
 
     def spot(self, *steps):
@@ -367,6 +431,11 @@ GREAT_FRAMES = (
     Frame((GREAT, 0, 1), (GREAT, 1, 0), (0, GREAT + 2, 1), (-1, 0, Fraction(1, GREAT))),
     Frame((0, Fraction(1, HUGE), 0), (HUGE, 0, 1), (0, 1, HUGE), (1, 0, 0)),
 )
+
+
+def ones(rings):
+    """Walls of one ring each."""
+    return [[ring] for ring in rings]
 
 
 def box_rings(low, high):
@@ -466,6 +535,23 @@ HEAPS = {
 }
 
 
+# A plate with a three-cornered hole through it that comes to the plate's side y = 0 in one edge alone.
+NICKED_TOP = ((0, 0), (2, 0), (1, 1), (3, 1), (2, 0), (4, 0), (4, 4), (0, 4))
+NICKED = ones([
+    tuple((x, y, 1) for x, y in NICKED_TOP), tuple((x, y, 0) for x, y in NICKED_TOP[::-1]),
+    ((2, 0, 0), (1, 1, 0), (1, 1, 1), (2, 0, 1)), ((1, 1, 0), (3, 1, 0), (3, 1, 1), (1, 1, 1)),
+    ((3, 1, 0), (2, 0, 0), (2, 0, 1), (3, 1, 1)),
+] + box_rings((0, 0, 0), (4, 4, 1))[:4])
+# A plate with two holes through it that touch in one edge.
+TWO_HOLES = ((1, 1), (1, 2), (2, 2), (2, 3), (3, 3), (3, 2), (2, 2), (2, 1))
+HOLED = [
+    [((0, 0, 1), (4, 0, 1), (4, 4, 1), (0, 4, 1)), tuple((x, y, 1) for x, y in TWO_HOLES)],
+    [((0, 0, 0), (0, 4, 0), (4, 4, 0), (4, 0, 0)), tuple((x, y, 0) for x, y in TWO_HOLES[::-1])],
+] + ones(
+    box_rings((0, 0, 0), (4, 4, 1))[:4]
+    + turned_inside(box_rings((1, 1, 0), (2, 2, 1))[:4]) + turned_inside(box_rings((2, 2, 0), (3, 3, 1))[:4]))
+
+
 def in_box(low, high):
     return lambda spot: all(a < b < c for a, b, c in zip(low, spot, high))
 
@@ -497,3 +583,16 @@ def spot_in(chance, plane, heap):
     (s, t), (u, v) = (min(p[k] for p in pairs) for k in range(2)), (max(p[k] for p in pairs) for k in range(2))
     share, other = (Fraction(chance.randint(0, 10 ** 6) * 2 + 1, 2 * 10 ** 6 + 1) for k in range(2))
     return lifted((s + share * (u - s), t + other * (v - t)))
+
+
+def turned_over(plane):
+    return tuple(-n for n in plane)
+
+
+def some_plane(chance, frame):
+    """The plane of three corners in a frame that no line holds."""
+    while True:
+        corners = [tuple(chance.randint(0, 6) for k in range(3)) for n in range(3)]
+        spots = [frame.spot(*corner) for corner in corners]
+        if any(crossed(minus(spots[1], spots[0]), minus(spots[2], spots[0]))):
+            return frame.plane(corners)

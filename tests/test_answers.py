@@ -1,8 +1,11 @@
 """What holds throughout: [2] and [3]. Answers are built of whole numbers, and hang on the arguments alone."""
 
 import unittest
+from fractions import Fraction
 
 from solidyard.bodies import body_of, heap_of, is_body
+from solidyard.corners import bits, corners, counts
+from solidyard.cuts import cut, diced, joined_all, part
 from solidyard.errors import YardError
 from solidyard.fronts import land_before
 from solidyard.lands import is_land, land_of, land_over, land_place, spread
@@ -13,6 +16,8 @@ from solidyard.planes import height, over, plane, plane_through
 from solidyard.points import amid, point, turn
 from solidyard.rims import land_part, rim, trace
 from solidyard.rows import row_common, row_either, row_joined, row_less, row_of, row_place
+from solidyard.volumes import place, volume
+from solidyard.ways import beyond
 from solidyard.words import common, either, joined, less
 from tests.helper import CUBE, FRAMES, GREAT, HEAPS, HUGE, OVERLAP, SHEETS, TETRA, is_plain
 
@@ -60,12 +65,23 @@ OF_BODIES = (
     (joined, (BODY, OTHER_BODY)), (common, (BODY, OTHER_BODY)), (less, (BODY, OTHER_BODY)),
     (either, (BODY, OTHER_BODY)), (either, (BODY, BODY)), (joined, (FRAME.body(OVERLAP), BODY)),
 )
-QUESTIONS = OF_POINTS + ON_LINES + IN_PLANES + OF_BODIES
+SPOT, WAY = FRAME.at(2, 2, 2), (3, -5, 1)
+ASKED_OF_BODIES = (
+    (corners, (BODY,)), (corners, ((),)), (bits, (BODY,)), (bits, ((),)), (counts, (BODY,)), (counts, ((),)),
+    (volume, (BODY,)), (volume, ((),)), (volume, (OTHER_BODY,)),
+    (place, (BODY, SPOT)), (place, (BODY, BODY[0][1][0][0])), (place, ((), SPOT)),
+    (beyond, (BODY, SPOT, WAY)), (beyond, (BODY, FRAME.at(*[Fraction(1, 3)] * 3), WAY)), (beyond, ((), SPOT, WAY)),
+    (cut, (BODY, (1, 1, 1, -1))), (cut, ((), ACROSS)), (part, (BODY, (1, 1, 1, -1))), (part, ((), ACROSS)),
+    (diced, (BODY, [(1, 1, 1, -1), ACROSS])), (diced, (BODY, ())), (diced, ((), [ACROSS])),
+    (joined_all, ([BODY, OTHER_BODY, ()],)), (joined_all, ((),)),
+)
+QUESTIONS = OF_POINTS + ON_LINES + IN_PLANES + OF_BODIES + ASKED_OF_BODIES
 REFUSED = (
     (fraction, (1, 0)), (divided, ((1, 2), (0, 1))), (point, (1, 2, 3, 0)), (plane, (0, 0, 0, 1)),
     (plane_through, (P, P, Q)), (line_through, (P, P)), (row_of, (LINE, [(A, P)])), (row_place, (LINE, ONE, P)),
     (land_of, (SHEET.plane, [[SHEET.off(0, 0)]])), (land_place, (LAND, SHEET.off(0, 0))),
-    (land_joined, (LAND, land_over(LAND))), (body_of, (FRAME.heap(CUBE[:-1]),)), (body_of, ([(P, Q, R, (9, 9, 9, 1))],)),
+    (beyond, (BODY, SPOT, (0, 0, 0))), (beyond, (BODY, BODY[0][1][0][0], WAY)), (land_joined, (LAND, land_over(LAND))),
+    (body_of, (FRAME.heap(CUBE[:-1]),)), (body_of, ([(P, Q, R, (9, 9, 9, 1))],)),
 )
 NUMBERS = (int, tuple)
 

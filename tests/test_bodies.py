@@ -12,7 +12,6 @@ from solidyard.lands import land_place
 from tests.helper import (
     BOX, CUBE, FRAMES, GREAT, GREAT_FRAMES, HEAPS, HUGE, PLAIN, TETRA, WAYS, box_rings, cube_rings, in_box, is_plain,
     is_wall, is_within, land_by_hand, measures, meets_land, point_at, some_points, some_solid, some_spots, spot_in,
-    tetra_rings,
 )
 
 ALL_FRAMES = FRAMES + GREAT_FRAMES

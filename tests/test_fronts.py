@@ -10,15 +10,11 @@ from solidyard.lands import is_land, land_over, land_place
 from solidyard.landwords import land_less
 from tests.helper import (
     BENT, BOX, FRAMES, GREAT_FRAMES, HEAPS, OTHER_BENT, PLAIN, TETRA, TINY, box_rings, is_plain, is_within, least_start,
-    measures, on_x, some_solid, spot_in, whole,
+    measures, on_x, some_plane, some_solid, spot_in, turned_over, whole,
 )
 
 ALL_FRAMES = FRAMES + GREAT_FRAMES
 HALF = Fraction(1, 2)
-
-
-def turned(plane):
-    return tuple(-n for n in plane)
 
 
 def made(frame, name):
@@ -28,7 +24,7 @@ def made(frame, name):
 def land_in(frame, rings):
     """The land of rings with it on the left, the first one going round its outside, and the same turned over."""
     land = frame.wall(rings)
-    back = turned(land[0]), tuple(sorted(least_start(ring[::-1]) for ring in land[1]))
+    back = turned_over(land[0]), tuple(sorted(least_start(ring[::-1]) for ring in land[1]))
     return land, back
 
 
@@ -45,7 +41,7 @@ class Fronts(unittest.TestCase):
                 for plane, rings in body:
                     self.check(body, plane, ())
                     back = tuple(sorted(least_start(ring[::-1]) for ring in rings))
-                    self.check(body, turned(plane), back)
+                    self.check(body, turned_over(plane), back)
 
     def test_written_out(self):
         box = body_of(PLAIN.heap(BOX))
@@ -95,7 +91,7 @@ class Fronts(unittest.TestCase):
             ):
                 plane = frame.plane(ring)
                 self.check(body, plane, ())
-                self.check(body, turned(plane), ())
+                self.check(body, turned_over(plane), ())
 
     def test_walls_on_both_sides(self):
         for frame in ALL_FRAMES:
@@ -119,9 +115,9 @@ class Fronts(unittest.TestCase):
         for frame in FRAMES:
             for name in HEAPS:
                 body = made(frame, name)
-                for plane in {turn for plane, rings in body for turn in (plane, turned(plane))}:
+                for plane in {turn for plane, rings in body for turn in (plane, turned_over(plane))}:
                     before = land_before(body, plane)
-                    behind = land_over(land_before(body, turned(plane)))
+                    behind = land_over(land_before(body, turned_over(plane)))
                     self.assertEqual(land_less(behind, before), (plane, dict(body).get(plane, ())))
 
     def test_point_by_point(self):
@@ -131,9 +127,9 @@ class Fronts(unittest.TestCase):
             body = body_of(frame.heap(some_solid(chance) + some_solid(chance)))
             if not body:
                 continue
-            planes = [chance.choice(body)[0], some_plane(chance, frame), turned(some_plane(chance, frame))]
+            planes = [chance.choice(body)[0], some_plane(chance, frame), turned_over(some_plane(chance, frame))]
             for plane in planes:
-                before, behind = land_before(body, plane), land_before(body, turned(plane))
+                before, behind = land_before(body, plane), land_before(body, turned_over(plane))
                 self.assertTrue(is_land(before) and is_land(behind))
                 for n in range(5):
                     p = spot_in(chance, plane, heap_of(body) + (point_in(plane),))
@@ -158,15 +154,6 @@ def point_in(plane):
     numbers = [0, 0, 0]
     numbers[axis] = Fraction(-plane[3], plane[axis])
     return (whole(numbers + [1]),)
-
-
-def some_plane(chance, frame):
-    while True:
-        corners = [tuple(chance.randint(0, 6) for k in range(3)) for n in range(3)]
-        spots = [frame.spot(*corner) for corner in corners]
-        ways = [[b - a for a, b in zip(spots[0], spot)] for spot in spots[1:]]
-        if any(ways[0][k - 1] * ways[1][k] - ways[0][k] * ways[1][k - 1] for k in range(3)):
-            return frame.plane(corners)
 
 
 if __name__ == "__main__":

@@ -26,6 +26,10 @@ LISTED = {
     "bodies": ("body_of(rings)", "is_body(body)", "heap_of(body)"),
     "fronts": ("land_before(body, plane)",),
     "words": ("joined(one, other)", "common(one, other)", "less(one, other)", "either(one, other)"),
+    "corners": ("corners(body)", "bits(body)", "counts(body)"),
+    "volumes": ("volume(body)", "place(body, point)"),
+    "ways": ("beyond(body, point, way)",),
+    "cuts": ("cut(body, plane)", "part(body, plane)", "diced(body, planes)", "joined_all(bodies)"),
 }
 
 

@@ -2,14 +2,13 @@
 
 import random
 import unittest
-from fractions import Fraction
 from itertools import permutations
 
 from solidyard.bodies import body_of, heap_of, is_body
 from solidyard.words import common, either, joined, less
 from tests.helper import (
-    BENT, BOX, CUBE, FRAMES, GREAT_FRAMES, HEAPS, OTHER_BENT, OVERLAP, SMALL, TETRA, box_rings, crossed, cube_rings,
-    dotted, is_plain, is_within, land_by_hand, measures, on_x, rolled_all, some_solid, some_spots, turned_inside,
+    BENT, BOX, CUBE, FRAMES, GREAT_FRAMES, HEAPS, OTHER_BENT, OVERLAP, SMALL, TETRA, box_rings, cube_rings, is_plain,
+    is_within, land_by_hand, on_x, ones, rolled_all, some_solid, some_spots, turned_inside, volume_by_hand,
 )
 
 ALL_FRAMES = FRAMES + GREAT_FRAMES
@@ -19,11 +18,6 @@ WORDS = (
     (less, lambda in_one, in_other: in_one and not in_other),
     (either, lambda in_one, in_other: in_one != in_other),
 )
-
-
-def ones(rings):
-    """Walls of one ring each."""
-    return [[ring] for ring in rings]
 
 
 BIG, INNER = cube_rings(0, 0, 0, 3), cube_rings(1, 1, 1)
@@ -85,16 +79,6 @@ CASES = {
     "one without points": (ones(TETRA), [], ones(TETRA), [], ones(TETRA), [], ones(TETRA)),
     "both without points": ([], [], [], [], [], [], []),
 }
-
-
-def volume(body):
-    """Six times the volume of a body, by tetrahedra over its rings."""
-    total = Fraction(0)
-    for ring in heap_of(body):
-        spots = [measures(p) for p in ring]
-        for q, r in zip(spots[1:], spots[2:]):
-            total += dotted(spots[0], crossed(q, r))
-    return total
 
 
 class Words(unittest.TestCase):
@@ -160,8 +144,8 @@ class Words(unittest.TestCase):
             self.assertEqual(common(shared, third), common(one, common(other, third)))
             self.assertEqual(common(both, third), joined(common(one, third), common(other, third)))
             self.assertEqual(less(third, both), less(less(third, one), other))
-            self.assertEqual(volume(both) + volume(shared), volume(one) + volume(other))
-            self.assertEqual(volume(less(one, other)), volume(one) - volume(shared))
+            self.assertEqual(volume_by_hand(both) + volume_by_hand(shared), volume_by_hand(one) + volume_by_hand(other))
+            self.assertEqual(volume_by_hand(less(one, other)), volume_by_hand(one) - volume_by_hand(shared))
 
     def test_itself_and_the_body_without_points(self):
         for frame in ALL_FRAMES:
@@ -201,7 +185,7 @@ class Words(unittest.TestCase):
             self.assertEqual(apart, body_of(heaps[0] + heaps[1]))
             self.assertEqual(apart, joined(less(one, other), less(other, one)))
             self.assertNotEqual(common(one, other), ())
-            self.assertEqual(volume(apart), volume(one) + volume(other) - 2 * volume(common(one, other)))
+            self.assertEqual(volume_by_hand(apart), volume_by_hand(one) + volume_by_hand(other) - 2 * volume_by_hand(common(one, other)))
 
     def test_bodies_stay_as_they_are(self):
         one, other = (FRAMES[2].body(ones(rings)) for rings in (LOW, HIGH))

@@ -5,6 +5,7 @@ Expected values are reckoned with Python's own Fraction, never with the program.
 
 import random
 from fractions import Fraction
+from itertools import product
 from math import gcd
 
 GREAT = 10 ** 60 + 7
@@ -596,3 +597,173 @@ def some_plane(chance, frame):
         spots = [frame.spot(*corner) for corner in corners]
         if any(crossed(minus(spots[1], spots[0]), minus(spots[2], spots[0]))):
             return frame.plane(corners)
+
+
+# Plain bodies and others, as heaps of rings of triples.
+
+def crossing_wedges():
+    """Six wedges round one line, three of them filled, so that three walls go through one another there."""
+    spokes = ((2, 0), (1, 2), (-1, 2), (-2, 0), (-1, -2), (1, -2))
+    rings = []
+    for k in (0, 2, 4):
+        (x, y), (u, v) = spokes[k], spokes[(k + 1) % 6]
+        for z in (0, 1):
+            rings.append(((0, 0, z), (x, y, z), (u, v, z)))
+        rings.append(((0, 0, 0), (x, y, 0), (x, y, 1), (0, 0, 1)))
+        rings.append(((0, 0, 0), (u, v, 0), (u, v, 1), (0, 0, 1)))
+        rings.append(((x, y, 0), (u, v, 0), (u, v, 1), (x, y, 1)))
+    return rings
+
+
+BLOCK = cube_rings(0, 0, 0, 4)
+PINCHED = {
+    "at a corner": CUBE + cube_rings(1, 1, 1),
+    "at a corner, from within": BLOCK + tetra_rings((0, 0, 0), (2, 1, 1), (1, 2, 1), (1, 1, 2)),
+    "along an edge": CUBE + cube_rings(1, 1, 0),
+    "along half an edge": cube_rings(0, 0, 0, 2) + box_rings((2, 2, 1), (3, 3, 3)),
+    "along a part of an edge": BLOCK + box_rings((4, 4, 1), (5, 5, 3)),
+    "along a part of an edge, from within": BLOCK + tetra_rings((0, 0, 1), (0, 0, 3), (2, 1, 2), (1, 2, 2)),
+    "a corner amid an edge": BLOCK + tetra_rings((4, 4, 1), (6, 5, 0), (5, 6, 0), (6, 6, 2)),
+    "a corner amid an edge, from within": BLOCK + tetra_rings((4, 4, 1), (2, 3, 1), (3, 2, 1), (2, 2, 3)),
+    "a corner amid a wall": BLOCK + tetra_rings((4, 1, 1), (6, 1, 0), (6, 2, 0), (6, 2, 2)),
+    "a corner amid a wall, from within": BLOCK + tetra_rings((4, 1, 1), (2, 1, 1), (2, 2, 1), (2, 2, 2)),
+    "an edge amid a wall": BLOCK + tetra_rings((1, 2, 4), (3, 2, 4), (2, 1, 6), (2, 3, 6)),
+    "an edge amid a wall, from within": BLOCK + tetra_rings((1, 2, 4), (3, 2, 4), (2, 1, 2), (2, 3, 2)),
+    "an edge across a wall": BLOCK + tetra_rings((-1, 2, 4), (5, 2, 4), (2, 1, 6), (2, 3, 6)),
+    "an edge across a wall from side to side": BLOCK + tetra_rings((0, 2, 4), (4, 1, 4), (2, 1, 6), (2, 3, 6)),
+    "an edge onto a wall": BLOCK + tetra_rings((-1, 2, 4), (2, 2, 4), (2, 1, 6), (2, 3, 6)),
+    "an edge on a wall, from side to side within": [ring for wall in NICKED for ring in wall],
+    "two edges cross": BLOCK + tetra_rings((3, 2, 5), (5, 2, 3), (6, 1, 6), (6, 3, 6)),
+    "two edges cross slantwise": BLOCK + tetra_rings((3, 1, 5), (5, 3, 3), (6, 1, 6), (6, 3, 6)),
+    "walls through one another": crossing_wedges(),
+    "two cubes by odd and even": cube_rings(0, 0, 0, 2) + cube_rings(1, 1, 1, 2),
+    "two tetrahedra by odd and even": TETRA + [tuple((2 - x, 1 - y, z) for x, y, z in ring) for ring in TETRA],
+    "two holes that touch": [ring for wall in HOLED for ring in wall],
+    "a corner on a wall's edge with a wall in common": BLOCK + cube_rings(4, 0, 0) + cube_rings(4, 1, 1),
+}
+
+
+def tube(low, high, *bars):
+    """A box with bars, pairs (low, high), taken out of it from top to bottom, as a heap."""
+    rings = box_rings(low, high)
+    for (x, y), (u, v) in bars:
+        rings = rings + box_rings((x, y, low[2]), (u, v, high[2]))
+    return rings
+
+
+WIDE = cube_rings(-20, -20, -20, 60)
+# Heaps of plain bodies; how many shells, parts and handles each of these has.
+SOUND = {
+    "nothing": ([], 0, 0, 0),
+    "box": (BOX, 1, 1, 0),
+    "tetrahedron": (TETRA, 1, 1, 0),
+    "wedge": (WEDGE, 1, 1, 0),
+    "apart": (HEAPS["apart"][0], 2, 2, 0),
+    "along a wall": (HEAPS["along a wall"][0], 1, 1, 0),
+    "along a part of a wall": (HEAPS["along a part of a wall"][0], 1, 1, 0),
+    "one in the corner of the other": (HEAPS["one in the corner of the other"][0], 1, 1, 0),
+    "hollow": (HEAPS["one within the other"][0], 2, 1, 0),
+    "two hollows": (cube_rings(0, 0, 0, 5) + cube_rings(1, 1, 1) + cube_rings(3, 3, 3), 3, 1, 0),
+    "a body within a hollow": (cube_rings(0, 0, 0, 5) + cube_rings(1, 1, 1, 3) + cube_rings(2, 2, 2), 3, 2, 0),
+    "hollows within hollows": ([ring for k in range(4) for ring in cube_rings(k, k, k, 9 - 2 * k)], 4, 2, 0),
+    "tube": (tube((0, 0, 0), (3, 3, 2), ((1, 1), (2, 2))), 1, 1, 1),
+    "three bars": (tube((0, 0, 0), (7, 3, 2), ((1, 1), (2, 2)), ((3, 1), (4, 2)), ((5, 1), (6, 2))), 1, 1, 3),
+    "a hollow with a handle": (cube_rings(-1, -1, -1, 9) + tube((0, 0, 0), (3, 3, 2), ((1, 1), (2, 2))), 2, 1, 1),
+    "a tube in a hollow": (cube_rings(-2, -2, -2, 9) + cube_rings(-1, -1, -1, 7)
+                           + tube((0, 0, 0), (3, 3, 2), ((1, 1), (2, 2))), 3, 2, 1),
+    "a tube through a box": (tube((0, 0, 0), (3, 3, 2), ((1, 1), (2, 2))) + box_rings((5, 0, 0), (6, 1, 1)), 2, 2, 1),
+    "a plug in a tube": (tube((0, 0, 0), (9, 9, 2), ((1, 1), (8, 8))) + tube((2, 2, 0), (7, 7, 2), ((3, 3), (4, 4))), 2, 2, 2),
+    "corners amid sides": (BLOCK + tetra_rings((1, 0, 4), (3, 0, 4), (2, 2, 4), (2, 1, 6)), 1, 1, 0),
+    "a corner amid a side, with a wall in common": (BLOCK + tetra_rings((2, 0, 4), (3, 1, 4), (1, 2, 4), (2, 1, 6)), 1, 1, 0),
+    "two walls of a box in common": (BLOCK + box_rings((1, 0, 4), (3, 2, 6)) + box_rings((4, 0, 1), (5, 4, 3)), 1, 1, 0),
+    "near one another": (BLOCK + tetra_rings((4 + Fraction(1, 10 ** 9), 1, 1), (6, 1, 0), (6, 2, 0), (6, 2, 2)), 2, 2, 0),
+    "a bridge": (box_rings((0, 0, 0), (7, 2, 1)) + box_rings((0, 0, 1), (1, 2, 3)) + box_rings((6, 0, 1), (7, 2, 3))
+                 + box_rings((0, 0, 3), (7, 2, 4)), 1, 1, 1),
+}
+
+
+# Bodies of cubes, looked at cube by cube.
+
+def beside(cell):
+    for k in range(3):
+        for step in (-1, 1):
+            yield cell[:k] + (cell[k] + step,) + cell[k + 1:]
+
+
+def cell_groups(cells):
+    """Sets of cells that hang together by their walls."""
+    left, groups = set(cells), []
+    while left:
+        waiting = [min(left)]
+        left.remove(waiting[0])
+        group = set(waiting)
+        while waiting:
+            for cell in beside(waiting.pop()):
+                if cell in left:
+                    left.remove(cell)
+                    group.add(cell)
+                    waiting.append(cell)
+        groups.append(group)
+    return groups
+
+
+def is_plain_by_cells(cells):
+    """True where, round each corner and each edge of the cells, those within and those without hang together."""
+    for x, y, z in {(x + i, y + j, z + k) for x, y, z in cells for i in (0, 1) for j in (0, 1) for k in (0, 1)}:
+        rounds = [product((x - 1, x), (y - 1, y), (z - 1, z))]
+        rounds += [product((x - 1, x), (y - 1, y), (z,)), product((x - 1, x), (y,), (z - 1, z))]
+        rounds += [product((x,), (y - 1, y), (z - 1, z))]
+        for near in map(set, rounds):
+            if len(cell_groups(near & cells)) > 1 or len(cell_groups(near - cells)) > 1:
+                return False
+    return True
+
+
+def cells_heap(frame, cells):
+    """The squares between cells and what is none of them, as a heap."""
+    return frame.heap([
+        ring for cell in sorted(cells) for ring, other in zip(cube_rings(*cell), beside(cell)) if other not in cells])
+
+
+def shells_by_cells(cells, size):
+    """Triples of 1 or -1, the cells of a filled body, and the part (None for hollows) of each shell, in no order."""
+    space = set(product(range(-1, size + 1), repeat=3))
+    told = []
+    for part in cell_groups(cells):
+        for gap in cell_groups(space - part):
+            outer = (-1, -1, -1) in gap
+            told.append((1, space - gap, part) if outer else (-1, gap, None))
+    return told
+
+
+def handles_by_cells(cells):
+    """How many shells less half of what corners, edges and squares of the border come to."""
+    corners, edges, squares = set(), set(), 0
+    for cell in cells:
+        for other in beside(cell):
+            if other not in cells:
+                axis = next(k for k in range(3) if other[k] != cell[k])
+                base = tuple(max(a, b) for a, b in zip(cell, other))
+                ring = []
+                for i, j in ((0, 0), (1, 0), (1, 1), (0, 1)):
+                    spot = list(base)
+                    spot[(axis + 1) % 3] += i
+                    spot[(axis + 2) % 3] += j
+                    ring.append(tuple(spot))
+                corners |= set(ring)
+                edges |= {frozenset(side) for side in zip(ring, ring[1:] + ring[:1])}
+                squares += 1
+    return len(shells_by_cells(cells, 12)) - Fraction(len(corners) - len(edges) + squares, 2)
+
+
+def some_cells(chance, size):
+    """Cells of nested cubes with some blocks put in or taken out."""
+    cells = set(product(range(size), repeat=3))
+    for k in range(1, (size + 1) // 2):
+        if chance.random() < 0.7:
+            cells ^= set(product(range(k, size - k), repeat=3))
+    for n in range(chance.randint(0, 5)):
+        bounds = [sorted(chance.randint(0, size) for end in range(2)) for k in range(3)]
+        block = set(product(*(range(low, max(high, low + 1)) for low, high in bounds)))
+        cells = cells | block if chance.random() < 0.5 else cells - block
+    return cells

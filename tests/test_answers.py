@@ -6,20 +6,25 @@ from fractions import Fraction
 from solidyard.bodies import body_of, heap_of, is_body
 from solidyard.corners import bits, corners, counts
 from solidyard.cuts import cut, diced, joined_all, part
+from solidyard.desk import Desk
 from solidyard.errors import YardError
 from solidyard.fronts import land_before
 from solidyard.lands import is_land, land_of, land_over, land_place, spread
 from solidyard.landwords import land_common, land_either, land_joined, land_less
 from solidyard.lines import line_common, line_through, on_line, spot
 from solidyard.lowest import divided, divisor, fraction, minus, plus, ranked, times
+from solidyard.moves import after, moved, moved_plane, moved_point, table, undone
+from solidyard.plain import is_plain as is_plain_body
 from solidyard.planes import height, over, plane, plane_through
 from solidyard.points import amid, point, turn
 from solidyard.rims import land_part, rim, trace
 from solidyard.rows import row_common, row_either, row_joined, row_less, row_of, row_place
+from solidyard.shells import handles, nest, pieces, shells
+from solidyard.texts import read, read_number, read_point, read_rings, shown, shown_number, shown_point, shown_rings
 from solidyard.volumes import place, volume
 from solidyard.ways import beyond
 from solidyard.words import common, either, joined, less
-from tests.helper import CUBE, FRAMES, GREAT, HEAPS, HUGE, OVERLAP, SHEETS, TETRA, is_plain
+from tests.helper import CUBE, FRAMES, GREAT, HEAPS, HUGE, OVERLAP, SHEETS, TETRA, cube_rings, is_plain
 
 P, Q, R, S = (1, 2, 3, 4), (0, 5, 1, 2), (-7, 0, 2, 3), (HUGE, 1, 0, GREAT)
 OF_POINTS = (
@@ -75,13 +80,33 @@ ASKED_OF_BODIES = (
     (diced, (BODY, [(1, 1, 1, -1), ACROSS])), (diced, (BODY, ())), (diced, ((), [ACROSS])),
     (joined_all, ([BODY, OTHER_BODY, ()],)), (joined_all, ((),)),
 )
-QUESTIONS = OF_POINTS + ON_LINES + IN_PLANES + OF_BODIES + ASKED_OF_BODIES
+BY = ((2, -1, 3, 4), (1, 5, -2, -7), (-3, 0, 1, 1), 4)
+NESTED = body_of(FRAME.heap([ring for k in range(4) for ring in cube_rings(k, k, k, 9 - 2 * k)]))
+OF_PLAIN_ONES = (
+    (shells, (NESTED,)), (shells, ((),)), (pieces, (NESTED,)), (pieces, ((),)), (handles, (NESTED,)), (handles, ((),)),
+    (nest, ((),)),
+    (table, BY), (table, ((2, 0, 0, 0), (0, 2, 0, 0), (0, 0, 2, 0), -2)), (after, (BY, BY)), (undone, (BY,)),
+    (moved_point, (P, BY)), (moved_plane, ((1, 2, 3, 4), BY)), (moved, (BODY, BY)), (moved, ((), BY)), (moved, (NESTED, BY)),
+    (read_number, ("-6/4",)), (read_number, ("007",)), (read_point, ("1 1/2 -0",)), (read_rings, ("none",)),
+    (read_rings, ("0 0 0, 1 1 1 | 2 2 2",)), (read, ("none",)), (read, (shown(BODY),)),
+)
+QUESTIONS = OF_POINTS + ON_LINES + IN_PLANES + OF_BODIES + ASKED_OF_BODIES + OF_PLAIN_ONES
+TEXTS = (
+    (shown_number, ((-3, 2),)), (shown_number, ((0, 1),)), (shown_point, (P,)), (shown_rings, ([[P, Q], [R]],)),
+    (shown_rings, ((),)), (shown, (BODY,)), (shown, ((),)),
+)
 REFUSED = (
     (fraction, (1, 0)), (divided, ((1, 2), (0, 1))), (point, (1, 2, 3, 0)), (plane, (0, 0, 0, 1)),
     (plane_through, (P, P, Q)), (line_through, (P, P)), (row_of, (LINE, [(A, P)])), (row_place, (LINE, ONE, P)),
     (land_of, (SHEET.plane, [[SHEET.off(0, 0)]])), (land_place, (LAND, SHEET.off(0, 0))),
     (beyond, (BODY, SPOT, (0, 0, 0))), (beyond, (BODY, BODY[0][1][0][0], WAY)), (land_joined, (LAND, land_over(LAND))),
     (body_of, (FRAME.heap(CUBE[:-1]),)), (body_of, ([(P, Q, R, (9, 9, 9, 1))],)),
+    (shells, (FRAME.body(OVERLAP),)), (nest, (FRAME.body(OVERLAP),)), (pieces, (FRAME.body(OVERLAP),)),
+    (handles, (FRAME.body(OVERLAP),)), (table, ((1, 0, 0, 0), (0, 1, 0, 0), (0, 0, 1, 0), 0)), (read_number, ("x",)),
+    (read_point, ("",)), (read_rings, ("",)), (read, ("0 0 0, 1 0 0, 0 1 0",)), (shown_number, ((10 ** 60, 1),)),
+    (shown_point, ((1, 0, 0, 10 ** 60),)), (shown_rings, ([[(1, 0, 0, 10 ** 60)]],)), (shown, (moved(BODY, (
+        (10 ** 60, 0, 0, 0), (0, 1, 0, 0), (0, 0, 1, 0), 1)),)), (Desk().tell, ("undo",)), (Desk().tell, ("again",)),
+    (Desk().tell, ("",)), (Desk().tell, ("shown a",)),
 )
 NUMBERS = (int, tuple)
 
@@ -111,6 +136,18 @@ class Built(unittest.TestCase):
         self.assertIs(is_land(land_over(HOLED)[:1] + HOLED[1:]), False)
         self.assertIs(is_body(BODY), True)
         self.assertIs(is_body(BODY[::-1]), False)
+        self.assertIs(is_plain_body(BODY), True)
+        self.assertIs(is_plain_body(FRAME.body(OVERLAP)), False)
+        found = nest(NESTED)
+        self.assertTrue(type(found) is tuple and all(at is None or type(at) is int for at in found))
+        self.assertEqual(found.count(None), 1)
+
+    def test_texts(self):
+        for asked, arguments in TEXTS:
+            answer = asked(*arguments)
+            self.assertIs(type(answer), str)
+            self.assertEqual(asked(*arguments), answer)
+        self.assertIs(type(Desk().tell("names")), str)
 
     def test_the_same_when_asked_again(self):
         first = [asked(*arguments) for asked, arguments in QUESTIONS]

@@ -30,6 +30,16 @@ LISTED = {
     "volumes": ("volume(body)", "place(body, point)"),
     "ways": ("beyond(body, point, way)",),
     "cuts": ("cut(body, plane)", "part(body, plane)", "diced(body, planes)", "joined_all(bodies)"),
+    "plain": ("is_plain(body)",),
+    "shells": ("shells(body)", "nest(body)", "pieces(body)", "handles(body)"),
+    "moves": (
+        "table(first, second, third, bottom)", "moved_point(point, by)", "moved_plane(plane, by)", "moved(body, by)",
+        "after(first, second)", "undone(by)",
+    ),
+    "texts": (
+        "shown_number(number)", "read_number(line)", "shown_point(point)", "read_point(line)", "shown_rings(rings)",
+        "read_rings(line)", "shown(body)", "read(line)",
+    ),
 }
 
 
@@ -49,6 +59,13 @@ class Names(unittest.TestCase):
                 function = getattr(module, name)
                 self.assertEqual(name + str(inspect.signature(function)), row)
                 self.assertEqual(function.__module__, "solidyard." + file)
+
+    def test_the_class_is_there(self):
+        desk = importlib.import_module("solidyard.desk").Desk
+        self.assertTrue(inspect.isclass(desk))
+        self.assertEqual(str(inspect.signature(desk)), "()")
+        self.assertIn("tell", vars(desk))
+        self.assertEqual(str(inspect.signature(desk.tell)), "(self, line)")
 
 
 if __name__ == "__main__":

@@ -24,7 +24,8 @@ BARRED_NAMES = set(
 METHODS = set(
     "append clear copy count endswith extend find get index insert isalnum isalpha isdigit islower isspace isupper"
     " items join keys ljust lower lstrip partition pop remove replace reverse rfind rjust rpartition rsplit rstrip"
-    " setdefault split splitlines startswith strip update upper values zfill bit_length add discard __init__".split()
+    " setdefault split splitlines startswith strip update upper values zfill bit_length add discard __init__"
+    " removeprefix".split()
 )
 KEYWORDS = {
     "sorted": {"key", "reverse"}, "min": {"key", "default"}, "max": {"key", "default"}, "sum": {"start"},
@@ -120,10 +121,14 @@ class Code(unittest.TestCase):
                     self.assertFalse(node.decorator_list, path)
 
     def test_calls_of_builtins(self):
+        own = {
+            part.name for path, tree in self.trees() for node in tree.body if isinstance(node, ast.ClassDef)
+            for part in node.body if isinstance(part, ast.FunctionDef)
+        }
         for path, tree in self.trees():
             for node in ast.walk(tree):
                 if isinstance(node, ast.Call) and isinstance(node.func, ast.Attribute):
-                    self.assertIn(node.func.attr, METHODS, path)
+                    self.assertIn(node.func.attr, METHODS | own, path)
                     self.assertFalse(node.keywords, path)
                 if isinstance(node, ast.Call) and isinstance(node.func, ast.Name) and node.func.id in BUILTINS:
                     handed = {keyword.arg for keyword in node.keywords}
@@ -131,6 +136,34 @@ class Code(unittest.TestCase):
                 if isinstance(node, (ast.Assign, ast.Return)) and isinstance(node.value, ast.Call):
                     name = getattr(node.value.func, "id", None)
                     self.assertNotIn(name, GONE_THROUGH_AT_ONCE, (path, node.lineno))
+
+    def test_stars_stand_before_names(self):
+        for path, tree in self.trees():
+            for node in ast.walk(tree):
+                if isinstance(node, ast.Call):
+                    for handed in node.args:
+                        if isinstance(handed, ast.Starred):
+                            self.assertIsInstance(handed.value, (ast.Name, ast.Attribute), (path, node.lineno))
+
+    def test_tables_of_a_module_are_read_only(self):
+        for path, tree in self.trees():
+            tables = {
+                target.id for node in tree.body if isinstance(node, ast.Assign) for target in node.targets
+                if isinstance(node.value, (ast.Dict, ast.List))
+            }
+            for node in ast.walk(tree):
+                for part in ast.iter_child_nodes(node):
+                    if isinstance(part, ast.Name) and part.id in tables and isinstance(part.ctx, ast.Load):
+                        self.assertIsInstance(node, (ast.Subscript, ast.Compare, ast.Attribute), (path, part.lineno))
+                        self.assertIsInstance(getattr(node, "ctx", ast.Load()), ast.Load, (path, part.lineno))
+
+    def test_errors_are_made_where_they_are_raised(self):
+        for path, tree in self.trees():
+            for node in ast.walk(tree):
+                if isinstance(node, ast.Raise):
+                    self.assertTrue(isinstance(node.exc, ast.Call) and isinstance(node.exc.func, ast.Name), path)
+                if isinstance(node, ast.ExceptHandler):
+                    self.assertIsNotNone(node.type, path)
 
     def test_is_with_none_true_and_false_alone(self):
         for path, tree in self.trees():

@@ -9,9 +9,9 @@ from solidyard.errors import MeetsEdge, NoWay, OnWall
 from solidyard.volumes import place
 from solidyard.ways import beyond
 from tests.helper import (
-    BOX, FRAMES, GREAT, GREAT_FRAMES, HEAPS, HOLED, HUGE, LIMIT, NICKED, PLAIN, TETRA, box_rings, cube_rings, dotted,
-    is_numbers, is_plain, measures, minus, on_wall_by_hand, ones, place_by_hand, point_at, some_solid, some_spots,
-    tetra_rings, whole,
+    BOX, FRAMES, GREAT, GREAT_FRAMES, HEAPS, HOLED, HUGE, LIMIT, NICKED, PLAIN, TETRA, box_rings, crossing_wedges,
+    cube_rings, dotted, is_numbers, is_plain, measures, minus, on_wall_by_hand, ones, place_by_hand, point_at,
+    some_solid, some_spots, tetra_rings, whole,
 )
 
 ALL_FRAMES = FRAMES + GREAT_FRAMES
@@ -284,20 +284,6 @@ class Refused(unittest.TestCase):
                     beyond(body, frame.at(x, y, HALF), way_in(frame, -x, -y, 0))
             met = beyond(body, frame.at(0, -1, HALF), way_in(frame, 2, 10, 0))
             self.assertEqual(len(met), 3)
-
-
-def crossing_wedges():
-    """Six wedges round one line, three of them filled, so that three walls go through one another there."""
-    spokes = ((2, 0), (1, 2), (-1, 2), (-2, 0), (-1, -2), (1, -2))
-    rings = []
-    for k in (0, 2, 4):
-        (x, y), (u, v) = spokes[k], spokes[(k + 1) % 6]
-        for z in (0, 1):
-            rings.append(((0, 0, z), (x, y, z), (u, v, z)))
-        rings.append(((0, 0, 0), (x, y, 0), (x, y, 1), (0, 0, 1)))
-        rings.append(((0, 0, 0), (u, v, 0), (u, v, 1), (0, 0, 1)))
-        rings.append(((x, y, 0), (u, v, 0), (u, v, 1), (x, y, 1)))
-    return rings
 
 
 if __name__ == "__main__":

@@ -152,7 +152,7 @@ class Deeds(Case):
         for numbers, plane in (
             ("1 0 0 -1", (1, 0, 0, -1)), ("-1 0 0 1", (-1, 0, 0, 1)), ("2 0 0 -2", (1, 0, 0, -1)), ("1 1 1 -2", (1, 1, 1, -2)),
             ("007 -0 00 -7", (1, 0, 0, -1)), ("0 0 1 5", (0, 0, 1, 5)), ("0 0 -1 -5", (0, 0, -1, -5)),
-            ("1 0 0 " + "9" * 60, (1, 0, 0, 10 ** 60 - 1)), ("1 0 0 -" + "9" * 60, (1, 0, 0, 1 - 10 ** 60)),
+            ("1 2 -3 1", (1, 2, -3, 1)), ("1 0 0 " + "9" * 60, (1, 0, 0, 10 ** 60 - 1)), ("1 0 0 -" + "9" * 60, (1, 0, 0, 1 - 10 ** 60)),
         ):
             for name in ("new", "box"):
                 self.check(desk, (f"part {name} box {numbers}", "done"), (f"shown {name}", shown(part(BOX_BODY, plane))))
@@ -235,6 +235,7 @@ class Questions(Case):
         desk = full()
         for numbers, plane in (
             ("1 0 0 -1", (1, 0, 0, -1)), ("-3 0 0 3", (-1, 0, 0, 1)), ("1 1 1 -2", (1, 1, 1, -2)), ("2 0 0 -1", (2, 0, 0, -1)),
+            ("1 2 -3 1", (1, 2, -3, 1)), ("-5 2 4 -1", (-5, 2, 4, -1)),
         ):
             for name, body in (("box", BOX_BODY), ("tetra", TETRA_BODY)):
                 self.check(desk, (f"cut {name} {numbers}", shown_rings(cut(body, plane)[1])))
